@@ -1,0 +1,1 @@
+"""Switchhills: settings of switches, and which of two neighbours does better."""
