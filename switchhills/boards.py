@@ -1,6 +1,6 @@
 """Boards: one to five switches with two or three stands each, and all their settings."""
 
-from switchhills.errors import InvalidPart, InvalidSizes, InvalidText, UnknownSetting
+from switchhills.errors import InvalidPart, InvalidSizes, InvalidText, NotABoard, UnknownSetting
 from switchhills.limits import MOST_SETTINGS, MOST_SWITCHES
 
 STANDS = "012"
@@ -61,6 +61,12 @@ def ones_and_twos(stands):
     """Each of the stands of a switch alone, and each two of them."""
     twos = [low + high for low in stands for high in stands if low < high]
     return [*stands, *twos]
+
+
+def check_board(board):
+    """Refuses what is no board."""
+    if not isinstance(board, Board):
+        raise NotABoard(board)
 
 
 def check_setting(board, setting):

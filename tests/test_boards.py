@@ -3,51 +3,10 @@
 import unittest
 from itertools import combinations, product
 
+from support import ALL_SIZES, AlwaysEqual, Case, NO_STRINGS, apart, is_square, settings_by_product
 from switchhills import boards
 from switchhills.boards import Board
 from switchhills.errors import InvalidPart, InvalidSizes, InvalidText, UnknownSetting
-
-
-class AlwaysEqual:
-    """A foreign object that says that it is equal to everything."""
-
-    def __eq__(self, other):
-        return True
-
-
-def settings_by_product(sizes):
-    return tuple(sorted("".join(row) for row in product(*["012"[:size] for size in sizes])))
-
-
-ALL_SIZES = [
-    sizes for many in range(1, 6) for sizes in product((2, 3), repeat=many)
-    if len(settings_by_product(sizes)) <= 48
-]
-
-NO_STRINGS = [
-    None, True, False, 0, 2, 22, -1, b"", b"00", b"22", (), ("00",), ("00", "01"), (("00",),), [],
-    ["00"], ["2", "2"], [["00"], ("01",)], {}, {"00": 1}, {"00"}, frozenset(["00"]), object(), str,
-    Board((2, 2)), InvalidText("00"), AlwaysEqual(), ((((((("00",),),),),),),),
-]
-
-
-def apart(one, other):
-    return sum(1 for a, b in zip(one, other) if a != b)
-
-
-def is_square(corners):
-    """The words of the document: two stands each of two switches, alike in the others."""
-    stands = [set(column) for column in zip(*corners)]
-    return sorted(map(len, stands)) == [1] * (len(stands) - 2) + [2, 2]
-
-
-class Case(unittest.TestCase):
-    def refused(self, error, attribute, value, call, *args, **named):
-        """The call raises this error, with this very value."""
-        with self.assertRaises(error) as caught:
-            call(*args, **named)
-        self.assertIs(type(caught.exception), error)
-        self.assertIs(getattr(caught.exception, attribute), value)
 
 
 class Example(unittest.TestCase):

@@ -116,6 +116,12 @@ class Expressions(unittest.TestCase):
                     self.assertNotIsInstance(node.value, (float, complex), name)
                 self.assertNotIsInstance(node, barred, name)
 
+    def test_no_generator_expressions(self):
+        # Classes of the package have `__eq__`: so `any`, `all`, `sum` and their kin take lists.
+        for name, _, tree in trees():
+            for node in ast.walk(tree):
+                self.assertNotIsInstance(node, ast.GeneratorExp, name)
+
     def test_decorators(self):
         for name, _, tree in trees():
             for node in ast.walk(tree):
