@@ -75,6 +75,14 @@ def check_setting(board, setting):
         raise UnknownSetting(setting)
 
 
+def are_different(board, values):
+    """Whether these values are two different settings of the board."""
+    if len(values) != 2:
+        return False
+    one, other = values
+    return one in board and other in board and one != other
+
+
 class Board:
     """A board, which never changes."""
 

@@ -44,9 +44,10 @@ def first_row(board, worse, start, goals):
     few settings as can be; None if there is none. For each setting `worse` has the set of those
     that are known to be worse."""
     bits = bits_of(board.settings)
+    wanted = sum([bits[goal] for goal in goals])
     # Beside each row stands the set of what it bars: all that is known to be worse than one of
-    # its settings. A row need not go on if it bars all that an earlier one to the same setting
-    # bars; so no row has a setting twice either.
+    # its settings. A row need not go on if it bars all goals, or all that an earlier row to the
+    # same setting bars; so no row has a setting twice either.
     barred = {setting: [] for setting in bits}
     barred[start].append(worse[start])
     rows = [((start,), worse[start])]
@@ -57,7 +58,9 @@ def first_row(board, worse, start, goals):
                 return row
             for near in board.beside(row[-1]):
                 more = bar | worse[near]
-                if bar & bits[near] == 0 and not has_less(barred[near], more):
+                if bar & bits[near] != 0 or wanted & ~more == 0:
+                    continue
+                if not has_less(barred[near], more):
                     barred[near].append(more)
                     longer.append((row + (near,), more))
         rows = longer

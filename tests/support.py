@@ -6,6 +6,8 @@ from functools import lru_cache
 from itertools import combinations, permutations, product
 
 from switchhills.boards import Board
+from switchhills.console import Console
+from switchhills.desks import Desk
 from switchhills.errors import InvalidText
 from switchhills.notes import Notes
 from switchhills.rankings import Ranking
@@ -190,6 +192,32 @@ def fitting_orders(notes):
     ]
 
 
+@lru_cache(maxsize=None)
+def whole_peaks(order):
+    return peaks_by_words(order, tuple(sorted(order)))
+
+
+@lru_cache(maxsize=None)
+def crosses_none(order):
+    """Whether an order makes no square crossed."""
+    settings = sorted(order)
+    squares = [corners for corners in combinations(settings, 4) if is_square(corners)]
+    return not any(kind_by_words(order, square) == "crossed" for square in squares)
+
+
+def wish_holds(orders, wish):
+    """Whether a wish holds for the notes that just these orders fit."""
+    kind, *rest = wish
+    tops = {peak for order in orders for peak in whole_peaks(order)}
+    return {
+        "one": lambda: all(len(whole_peaks(order)) == 1 for order in orders),
+        "smooth": lambda: all(crosses_none(order) for order in orders),
+        "open": lambda: rest[0] in tops,
+        "rises": lambda: all(order.index(rest[0]) < order.index(rest[1]) for order in orders),
+        "few": lambda: len(tops) <= rest[0],
+    }[kind]()
+
+
 def all_notes(text):
     """All notes of a board of few pairs, with the facts in one order."""
     board = Board.read(text)
@@ -228,7 +256,8 @@ NO_STRINGS = [
     ["00"], ["2", "2"], [["00"], ("01",)], {}, {"00": 1}, {"00"}, frozenset(["00"]), object(), str,
     Board((2, 2)), InvalidText("00"), AlwaysEqual(), (((((("00",),),),),),),
     Ranking(Board((2,)), ("0", "1")), Notes(Board((2, 2))), (Notes(Board((2,))),),
-    [Board((2, 2)), ("00", ["01"])],
+    [Board((2, 2)), ("00", ["01"])], Desk(Notes(Board((2, 2)))), Console(Notes(Board((2, 2)))),
+    (Desk(Notes(Board((2,)))),),
 ]
 
 STRINGS = [

@@ -122,6 +122,29 @@ class Expressions(unittest.TestCase):
             for node in ast.walk(tree):
                 self.assertNotIsInstance(node, ast.GeneratorExp, name)
 
+    def test_is_only_beside_none_true_and_false(self):
+        for name, _, tree in trees():
+            for node in ast.walk(tree):
+                if isinstance(node, ast.Compare):
+                    sides = [node.left, *node.comparators]
+                    for at, operator in enumerate(node.ops):
+                        if isinstance(operator, (ast.Is, ast.IsNot)):
+                            constant = any(isinstance(side, ast.Constant) and side.value in (None, True, False)
+                                           for side in sides[at:at + 2])
+                            self.assertTrue(constant, f"{name}:{node.lineno}")
+
+    def test_names_of_a_file_are_not_used_for_variables(self):
+        for name, _, tree in trees():
+            bound = {node.name for node in tree.body if isinstance(node, ast.ClassDef)}
+            for node in tree.body:
+                if isinstance(node, ast.ImportFrom):
+                    bound.update(alias.name for alias in node.names)
+            for node in ast.walk(tree):
+                if isinstance(node, ast.arg):
+                    self.assertNotIn(node.arg, bound, name)
+                if isinstance(node, ast.Name) and not isinstance(node.ctx, ast.Load):
+                    self.assertNotIn(node.id, bound, name)
+
     def test_decorators(self):
         for name, _, tree in trees():
             for node in ast.walk(tree):
